@@ -1,0 +1,1 @@
+"""Lazyhoist: reckonings moved to where they are wanted."""
