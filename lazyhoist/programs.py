@@ -15,10 +15,14 @@ def followers(program, n):
     return [n + 1]
 
 
+def all_followers(program):
+    return [followers(program, n) for n in range(len(program))]
+
+
 def places(program):
     told = [(-1, 0)]
-    for n in range(len(program)):
-        for m in followers(program, n):
+    for n, targets in enumerate(all_followers(program)):
+        for m in targets:
             told.append((n, m))
     return told
 
@@ -39,7 +43,7 @@ def reckonings(program):
 
 def check(rows):
     check_rows(rows)
-    onward = [followers(rows, n) for n in range(len(rows))]
+    onward = all_followers(rows)
     check_all_in("apart", len(rows), reached(onward, [0]))
     ends = [n for n in range(len(rows)) if rows[n][0] == "end"]
     check_all_in("endless", len(rows), reached(turned(onward), ends))

@@ -88,7 +88,8 @@ class Reckonings(unittest.TestCase):
         self.assertEqual(reckonings(program), [("*", "y", "y"), ("+", "a", "b"), ("&", 1, 2)])
 
     def test_order_of_operands_and_signs_part_them(self):
-        told = [(s, a, b) for s in "=<^|&*-+" for a, b in (("b", "a"), ("a", "b"), ("a", "a"), ("a", 1), (1, "a"), (1, 0))]
+        pairs = (("b", "a"), ("a", "b"), ("a", "a"), ("a", 1), (1, "a"), (1, 0))
+        told = [(s, a, b) for s in "=<^|&*-+" for a, b in pairs]
         program = [("reckon", "x",) + reckoning for reckoning in told + told] + [("end",)]
         self.assertEqual(reckonings(program), told)
 

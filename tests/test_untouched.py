@@ -1,11 +1,15 @@
-"""Point 1: nothing handed in is changed, all lists are new, nothing hangs on what was asked ahead."""
+"""Point 1: nothing handed in is changed, all lists and dicts are new, nothing hangs on what was asked ahead."""
 
 import copy
 import unittest
 
-from lazyhoist.errors import NoProgram
+from lazyhoist.errors import NoProgram, NoText
 from lazyhoist.programs import check, followers, leading, places, reckonings
 from lazyhoist.rows import changes, is_name, is_row, reckoning_of, sets
+from lazyhoist.runs import run
+from lazyhoist.texts import read, show
+from lazyhoist.ways import is_way, is_whole, way_on, way_to
+from lazyhoist.worths import reckoned
 from tests.samples import EACH_KIND
 
 # As long as EACH_KIND, so that what is kept by length alone would be told wrongly.
@@ -29,12 +33,22 @@ REFUSED = (
 )
 
 
+REFUSED_TEXTS = (("", 0), ("# end", 0), ("end\nA", 1), ("\n\nsay", 2))
+NAMES = {"a": 3, "b": 0, "n": 2, "y": 1, "z": 9}
+
+
 def asked(program):
-    """All that the functions that give lists tell of a program, by question."""
+    """All that is told of a program, by question."""
     told = {"places": places(program), "reckonings": reckonings(program)}
     for n in range(len(program)):
         told["followers", n] = followers(program, n)
         told["leading", n] = leading(program, n)
+        told["way to", n] = way_to(program, n)
+        told["way on", n] = way_on(program, n)
+    told["text"] = show(program)
+    told["rows"] = read(show(program))
+    for most in (0, 1, 7, 100):
+        told["run", most] = run(program, NAMES, most)
     return told
 
 
@@ -46,6 +60,43 @@ def refusal_of(rows):
     return None
 
 
+def line_refused(text):
+    try:
+        read(text)
+    except NoText as refusal:
+        return refusal.line
+    return None
+
+
+def holders(thing):
+    """All lists and dicts in a thing, itself too."""
+    if isinstance(thing, dict):
+        within = list(thing.values())
+    elif isinstance(thing, (list, tuple)):
+        within = thing
+    else:
+        return []
+    told = [] if isinstance(thing, tuple) else [thing]
+    for part in within:
+        told.extend(holders(part))
+    return told
+
+
+def spoil(told):
+    """Changes every list and dict among the answers."""
+    for holder in holders(list(told.values())):
+        if isinstance(holder, dict):
+            holder["changed"] = 7
+        else:
+            holder.reverse()
+            holder.append("changed")
+
+
+def empty(told):
+    for holder in holders(list(told.values())):
+        holder.clear()
+
+
 class HandedIn(unittest.TestCase):
     def test_programs_stay(self):
         for rows in (EACH_KIND, OTHER):
@@ -54,6 +105,16 @@ class HandedIn(unittest.TestCase):
             self.assertEqual(program, list(rows))
             asked(program)
             self.assertEqual(program, list(rows))
+
+    def test_names_and_ways_stay(self):
+        program, names, way = list(EACH_KIND), dict(NAMES), [0, 1, 4, 5]
+        for most in (0, 1, 2, 50, 1000):
+            run(program, names, most)
+            self.assertEqual(names, NAMES)
+        self.assertIs(is_way(program, way), True)
+        self.assertIs(is_whole(program, way), False)
+        self.assertEqual(way, [0, 1, 4, 5])
+        self.assertEqual(program, list(EACH_KIND))
 
     def test_refused_lists_stay(self):
         for rows, word_and_at in REFUSED:
@@ -75,30 +136,31 @@ class GivenBack(unittest.TestCase):
         program = list(EACH_KIND)
         first = asked(program)
         kept = copy.deepcopy(first)
-        for told in first.values():
-            told.reverse()
-            told.append("changed")
+        spoil(first)
+        self.assertNotEqual(first, kept)
         self.assertEqual(asked(program), kept)
-        for told in asked(program).values():
-            told.clear()
+        empty(asked(program))
         self.assertEqual(asked(program), kept)
         self.assertEqual(program, list(EACH_KIND))
+        self.assertEqual(NAMES, {"a": 3, "b": 0, "n": 2, "y": 1, "z": 9})
 
-    def test_each_time_another_list(self):
-        program = list(EACH_KIND)
-        first, second = asked(program), asked(program)
-        for question in first:
-            self.assertIsInstance(first[question], list)
-            self.assertIsNot(first[question], second[question], question)
+    def test_each_time_another_list_or_dict(self):
+        for rows in (EACH_KIND, OTHER, (("end",),)):
+            program = list(rows)
+            told = [program, NAMES] + holders([asked(program), asked(program)])
+            self.assertEqual(len({id(holder) for holder in told}), len(told))
 
     def test_lists_of_one_row_without_followers(self):
         program = [("end",)]
-        followers(program, 0).append(7)
-        reckonings(program).append(7)
-        places(program).append(7)
-        leading(program, 0).append(7)
-        self.assertEqual(asked(program), {
-            "places": [(-1, 0)], "reckonings": [], ("followers", 0): [], ("leading", 0): [(-1, 0)]})
+        spoil(asked(program))
+        told = asked(program)
+        for question, answer in (
+            ("places", [(-1, 0)]), ("reckonings", []), (("followers", 0), []), (("leading", 0), [(-1, 0)]),
+            (("way to", 0), [0]), (("way on", 0), [0]), ("rows", [("end",)]), ("text", "end"),
+            (("run", 0), ("spent", [], {"a": 3, "n": 2, "y": 1, "z": 9}, [])),
+            (("run", 1), ("end", [], {"a": 3, "n": 2, "y": 1, "z": 9}, [0])),
+        ):
+            self.assertEqual(told[question], answer)
 
 
 class ChangedBehind(unittest.TestCase):
@@ -110,6 +172,24 @@ class ChangedBehind(unittest.TestCase):
         self.assertEqual(told, kept)
         program.clear()
         self.assertEqual(told, kept)
+
+    def test_names_changed_behind_the_call_change_no_answer(self):
+        program, names = list(EACH_KIND), dict(NAMES)
+        told = run(program, names)
+        kept = copy.deepcopy(told)
+        names.clear()
+        names["x"] = 5
+        self.assertEqual(told, kept)
+        self.assertEqual(run(program, names), run(program, {"x": 5}))
+        self.assertNotEqual(run(program, names), kept)
+
+    def test_a_changed_way_is_told_as_it_is_now(self):
+        program, way = list(EACH_KIND), [0, 1, 4, 5, 6, 7]
+        self.assertIs(is_whole(program, way), False)
+        way.append(8)
+        self.assertIs(is_whole(program, way), True)
+        way.append(8)
+        self.assertIs(is_way(program, way), False)
 
     def test_a_changed_program_is_told_as_it_is_now(self):
         program = list(EACH_KIND)
@@ -138,6 +218,30 @@ class AskedAhead(unittest.TestCase):
                 self.assertEqual(refusal_of(rows), word_and_at)
                 self.assertIsNone(refusal_of(other))
                 self.assertEqual(asked(other), other_told)
+            for text, line in REFUSED_TEXTS:
+                self.assertEqual(line_refused(text), line)
+                self.assertEqual(asked(program), one_told)
+                self.assertEqual(line_refused(text), line)
+                self.assertEqual(asked(other), other_told)
+
+    def test_other_texts_in_between(self):
+        for count in range(2):
+            for text, rows in (
+                ("x = a\nend", [("copy", "x", "a"), ("end",)]), ("end", [("end",)]), ("say a", [("say", "a")]),
+                ("x = b\nend", [("copy", "x", "b"), ("end",)]), ("end\n", [("end",)]), ("say 1", [("say", 1)]),
+            ):
+                told = read(text)
+                self.assertEqual(told, rows)
+                told.append("changed")
+
+    def test_names_of_another_run_are_forgotten(self):
+        program = [("reckon", "a", "+", "a", "b"), ("say", "a"), ("end",)]
+        for count in range(2):
+            self.assertEqual(run(program, {"a": 1, "b": 2, "c": 3})[1:3], ([3], {"a": 3, "b": 2, "c": 3}))
+            self.assertEqual(run(program, {})[1:3], ([0], {}))
+            self.assertEqual(run(program, {"b": 1})[1:3], ([1], {"a": 1, "b": 1}))
+            self.assertEqual(reckoned("+", 1, 2), 3)
+            self.assertEqual(reckoned("-", 1, 2), 2 ** 64 - 1)
 
     def test_rows_asked_twice(self):
         for count in range(2):

@@ -1,0 +1,60 @@
+"""Ways: which lists of rows' numbers are one, and ways to and from a row."""
+
+from lazyhoist.programs import all_followers, followers
+
+
+def is_way(program, way):
+    if len(way) == 0 or not is_row_number(program, way[0]):
+        return False
+    # Each number that was asked about is a row's, as a follower is one: so its own followers may be asked for.
+    for k in range(len(way) - 1):
+        if way[k + 1] not in followers(program, way[k]):
+            return False
+    return True
+
+
+def is_row_number(program, n):
+    return 0 <= n < len(program)
+
+
+def is_whole(program, way):
+    return is_way(program, way) and way[0] == 0 and program[way[-1]][0] == "end"
+
+
+def way_to(program, n):
+    return shortest_way(all_followers(program), 0, [m == n for m in range(len(program))])
+
+
+def way_on(program, n):
+    return shortest_way(all_followers(program), n, [row[0] == "end" for row in program])
+
+
+def shortest_way(steps, start, goals):
+    # The way by steps from start to a row that goals has as True, or None; none of the shortest has a row twice.
+    came_from = {start: None}
+    layer = [start]
+    while len(layer) > 0:
+        for n in layer:
+            if goals[n]:
+                return way_back(came_from, n)
+        layer = next_layer(steps, layer, came_from)
+    return None
+
+
+def next_layer(steps, layer, came_from):
+    fresh = []
+    for n in layer:
+        for m in steps[n]:
+            if m not in came_from:
+                came_from[m] = n
+                fresh.append(m)
+    return fresh
+
+
+def way_back(came_from, n):
+    way = []
+    while n is not None:
+        way.append(n)
+        n = came_from[n]
+    way.reverse()
+    return way
