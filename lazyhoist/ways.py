@@ -22,30 +22,34 @@ def is_whole(program, way):
 
 
 def way_to(program, n):
-    return shortest_way(all_followers(program), 0, [m == n for m in range(len(program))])
+    goals = [m == n for m in range(len(program))]
+    return shortest_way(all_followers(program), 0, goals, [False for row in program])
 
 
 def way_on(program, n):
-    return shortest_way(all_followers(program), n, [row[0] == "end" for row in program])
+    goals = [row[0] == "end" for row in program]
+    return shortest_way(all_followers(program), n, goals, [False for row in program])
 
 
-def shortest_way(steps, start, goals):
-    # The way by steps from start to a row that goals has as True, or None; none of the shortest has a row twice.
+def shortest_way(steps, start, goals, barred):
+    # By steps from start to the first goal, through no barred row, or None; what is shortest has no row twice.
+    if barred[start]:
+        return None
     came_from = {start: None}
     layer = [start]
     while len(layer) > 0:
         for n in layer:
             if goals[n]:
                 return way_back(came_from, n)
-        layer = next_layer(steps, layer, came_from)
+        layer = next_layer(steps, layer, barred, came_from)
     return None
 
 
-def next_layer(steps, layer, came_from):
+def next_layer(steps, layer, barred, came_from):
     fresh = []
     for n in layer:
         for m in steps[n]:
-            if m not in came_from:
+            if m not in came_from and not barred[m]:
                 came_from[m] = n
                 fresh.append(m)
     return fresh

@@ -3,6 +3,12 @@
 from lazyhoist.errors import NoProgram
 from lazyhoist.programs import check
 
+# Rows that do nothing to x + y, reckon it, reckon and then change it, change it.
+END = ("end",)
+SAY = ("say", "a")
+RECKON = ("reckon", "z", "+", "x", "y")
+BOTH = ("reckon", "x", "+", "x", "y")
+COPY = ("copy", "x", 1)
 SIGNS = ("+", "-", "*", "&", "|", "^", "<", "=")
 # Each kind of row, a part forward and one back, and rows that several rows lead to. A tuple, so that no test
 # can change it for the others: each takes its own list of it.

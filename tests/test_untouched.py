@@ -4,10 +4,13 @@ import copy
 import unittest
 
 from lazyhoist.errors import NoProgram, NoText
+from lazyhoist.firsts import firsts
 from lazyhoist.programs import check, followers, leading, places, reckonings
 from lazyhoist.rows import changes, is_name, is_row, reckoning_of, sets
 from lazyhoist.runs import run
+from lazyhoist.stands import standing, unstanding
 from lazyhoist.texts import read, show
+from lazyhoist.wants import unwanted, wanted
 from lazyhoist.ways import is_way, is_whole, way_on, way_to
 from lazyhoist.worths import reckoned
 from tests.samples import EACH_KIND
@@ -49,6 +52,11 @@ def asked(program):
     told["rows"] = read(show(program))
     for most in (0, 1, 7, 100):
         told["run", most] = run(program, NAMES, most)
+    told["wanted"], told["standing"], told["firsts"] = wanted(program), standing(program), firsts(program)
+    for k in range(len(reckonings(program))):
+        for place in places(program):
+            told["unwanted", k, place] = unwanted(program, k, place)
+            told["unstanding", k, place] = unstanding(program, k, place)
     return told
 
 
@@ -159,6 +167,7 @@ class GivenBack(unittest.TestCase):
             (("way to", 0), [0]), (("way on", 0), [0]), ("rows", [("end",)]), ("text", "end"),
             (("run", 0), ("spent", [], {"a": 3, "n": 2, "y": 1, "z": 9}, [])),
             (("run", 1), ("end", [], {"a": 3, "n": 2, "y": 1, "z": 9}, [0])),
+            ("wanted", {(-1, 0): 0}), ("standing", {(-1, 0): 0}), ("firsts", {(-1, 0): 0}),
         ):
             self.assertEqual(told[question], answer)
 
@@ -233,6 +242,34 @@ class AskedAhead(unittest.TestCase):
                 told = read(text)
                 self.assertEqual(told, rows)
                 told.append("changed")
+
+    def test_programs_of_the_same_shape_in_between(self):
+        # The same places each time, and each time another answer.
+        program = [("say", 1), ("reckon", "z", "+", "x", "y"), ("say", 2), ("end",)]
+
+        def in_order(told):
+            return [told[place] for place in places(program)]
+
+        for count in range(2):
+            program[0], program[2] = ("say", 1), ("say", 2)
+            self.assertEqual(in_order(wanted(program)), [1, 1, 0, 0])
+            self.assertEqual(in_order(standing(program)), [0, 0, 1, 1])
+            self.assertEqual(in_order(firsts(program)), [1, 0, 0, 0])
+            self.assertIsNone(unwanted(program, 0, (-1, 0)))
+            self.assertIsNone(unstanding(program, 0, (2, 3)))
+            program[0], program[2] = ("copy", "x", 1), ("copy", "y", 2)
+            self.assertEqual(in_order(wanted(program)), [0, 1, 0, 0])
+            self.assertEqual(in_order(standing(program)), [0, 0, 1, 0])
+            self.assertEqual(in_order(firsts(program)), [0, 1, 0, 0])
+            self.assertEqual(unwanted(program, 0, (-1, 0)), [0])
+            self.assertEqual(unstanding(program, 0, (2, 3)), [2])
+
+    def test_the_list_without_rows_is_a_new_one(self):
+        program = [("reckon", "z", "+", "x", "y"), ("end",)]
+        for count in range(2):
+            told = unstanding(program, 0, (-1, 0))
+            self.assertEqual(told, [])
+            told.append(7)
 
     def test_names_of_another_run_are_forgotten(self):
         program = [("reckon", "a", "+", "a", "b"), ("say", "a"), ("end",)]
