@@ -41,6 +41,11 @@ def reckonings(program):
     return list(told)
 
 
+def rows_that_reckon(program, k):
+    reckoning = reckonings(program)[k]
+    return [n for n, row in enumerate(program) if reckoning_of(row) == reckoning]
+
+
 def check(rows):
     check_rows(rows)
     onward = all_followers(rows)
@@ -78,9 +83,7 @@ def check_all_in(word, size, numbers):
 
 def reached(steps, starts):
     # Not by calls within calls: a program that was laid may be longer than these may go deep.
-    seen = {}
-    for n in starts:
-        seen[n] = True
+    seen = truths_of(starts)
     waiting = list(starts)
     while len(waiting) > 0:
         n = waiting.pop()
@@ -89,6 +92,14 @@ def reached(steps, starts):
                 seen[m] = True
                 waiting.append(m)
     return seen
+
+
+def truths_of(things):
+    # A dict of these in the place of a set: whether a thing is in it is told at once, however many there are.
+    told = {}
+    for thing in things:
+        told[thing] = True
+    return told
 
 
 def turned(steps):

@@ -3,8 +3,12 @@
 import copy
 import unittest
 
-from lazyhoist.errors import NoProgram, NoText
+from lazyhoist.errors import NoPaper, NoProgram, NoText
 from lazyhoist.firsts import firsts
+from lazyhoist.lives import live
+from lazyhoist.looks import held, look
+from lazyhoist.offs import put_off
+from lazyhoist.papers import paper, still
 from lazyhoist.programs import check, followers, leading, places, reckonings
 from lazyhoist.rows import changes, is_name, is_row, reckoning_of, sets
 from lazyhoist.runs import run
@@ -57,7 +61,41 @@ def asked(program):
         for place in places(program):
             told["unwanted", k, place] = unwanted(program, k, place)
             told["unstanding", k, place] = unstanding(program, k, place)
+        told.update(asked_of_papers(program, k))
     return told
+
+
+def asked_of_papers(program, k):
+    told = {}
+    for size in (0, 1, 3, len(places(program))):
+        stops = places(program)[:size]
+        told["put off", k, size] = put_off(program, k, stops)
+        told["paper", k, size] = paper(program, k, stops)
+    told["put off", k], told["paper", k], told["still", k] = put_off(program, k), paper(program, k), still(program, k)
+    for name, asked_about in papers_of(program, k).items():
+        told["live", k, name] = live(program, k, asked_about)
+        told["held", k, name] = held(program, k, asked_about)
+        told["look", k, name] = paper_refused(program, k, asked_about)
+    return told
+
+
+def papers_of(program, k):
+    """Papers that are let by, and some of which each is refused for something else."""
+    rows = [n for n, how in still(program, k)[1]]
+    return {
+        "still": still(program, k),
+        "last": paper(program, k),
+        "first": paper(program, k, places(program)),
+        "unwanted": (tuple(places(program)), tuple((n, "keep") for n in rows)),
+        "empty": ((), tuple((n, "read") for n in rows)),
+    }
+
+
+def paper_refused(program, k, asked_about):
+    try:
+        return look(program, k, asked_about)
+    except NoPaper as refusal:
+        return (refusal.word, refusal.at, refusal.way)
 
 
 def refusal_of(rows):
@@ -139,6 +177,25 @@ class HandedIn(unittest.TestCase):
         self.assertEqual(thing, before)
 
 
+    def test_stops_stay(self):
+        program = list(EACH_KIND)
+        for k in range(3):
+            for size in (0, 1, 4, 10):
+                stops = places(program)[:size][::-1] * 2
+                before = list(stops)
+                put_off(program, k, stops)
+                paper(program, k, stops)
+                self.assertEqual(stops, before)
+                self.assertEqual(program, list(EACH_KIND))
+
+    def test_programs_stay_where_papers_are_refused(self):
+        program = list(EACH_KIND)
+        for k in range(3):
+            for asked_about in list(papers_of(program, k).values()) + [((), ()), (((0, 0),), ())]:
+                paper_refused(program, k, asked_about)
+                self.assertEqual(program, list(EACH_KIND))
+
+
 class GivenBack(unittest.TestCase):
     def test_the_same_behind_changed_answers(self):
         program = list(EACH_KIND)
@@ -181,6 +238,30 @@ class ChangedBehind(unittest.TestCase):
         self.assertEqual(told, kept)
         program.clear()
         self.assertEqual(told, kept)
+
+    def test_stops_changed_behind_the_call_change_no_answer(self):
+        program = [("say", 1), ("say", 2), ("reckon", "z", "+", "x", "y"), ("end",)]
+        stops = [(0, 1)]
+        told = put_off(program, 0, stops)
+        self.assertEqual(told, ([(-1, 0), (0, 1)], [0]))
+        self.assertEqual(paper(program, 0, stops), (((0, 1),), ((2, "read"),)))
+        stops[0] = (1, 2)
+        self.assertEqual(told, ([(-1, 0), (0, 1)], [0]))
+        self.assertEqual(put_off(program, 0, stops), ([(-1, 0), (0, 1), (1, 2)], [0, 1]))
+        self.assertEqual(paper(program, 0, stops), (((1, 2),), ((2, "read"),)))
+        stops.clear()
+        self.assertEqual(put_off(program, 0, stops), ([(-1, 0), (0, 1), (1, 2)], [0, 1, 2]))
+        self.assertEqual(paper(program, 0, stops), ((), ((2, "own"),)))
+
+    def test_a_refusal_is_made_of_a_new_list(self):
+        program = [("say", 1), ("reckon", "z", "+", "x", "y"), ("say", 2), ("end",)]
+        unwanted_there, empty_there = (((1, 2),), ((1, "own"),)), ((), ((1, "read"),))
+        for count in range(3):
+            refused = [paper_refused(program, 0, unwanted_there), paper_refused(program, 0, empty_there)]
+            self.assertEqual(refused, [("unwanted", (1, 2), [2, 3]), ("empty", 1, [0, 1])])
+            for word, at, way in refused:
+                way.clear()
+            self.assertEqual(program, [("say", 1), ("reckon", "z", "+", "x", "y"), ("say", 2), ("end",)])
 
     def test_names_changed_behind_the_call_change_no_answer(self):
         program, names = list(EACH_KIND), dict(NAMES)
@@ -263,6 +344,26 @@ class AskedAhead(unittest.TestCase):
             self.assertEqual(in_order(firsts(program)), [0, 1, 0, 0])
             self.assertEqual(unwanted(program, 0, (-1, 0)), [0])
             self.assertEqual(unstanding(program, 0, (2, 3)), [2])
+
+    def test_other_papers_in_between(self):
+        program = [("reckon", "z", "+", "x", "y"), ("copy", "x", 1), ("reckon", "z", "+", "x", "y"), ("end",)]
+        other = [("reckon", "z", "+", "x", "y"), ("copy", "z", 1), ("reckon", "z", "+", "x", "y"), ("end",)]
+        keep_and_read = ((), ((0, "keep"), (2, "read")))
+        kept_anew = (((1, 2),), ((0, "own"), (2, "read")))
+        for count in range(3):
+            self.assertEqual(paper_refused(program, 0, keep_and_read), ("empty", 2, [0, 1, 2]))
+            self.assertIsNone(paper_refused(other, 0, keep_and_read))
+            self.assertIsNone(paper_refused(program, 0, kept_anew))
+            self.assertEqual(paper_refused(program, 0, ((), ())), ("form", None, None))
+            self.assertEqual(held(program, 0, keep_and_read), [(0, 1)])
+            self.assertEqual(held(program, 0, kept_anew), [(1, 2), (2, 3)])
+            self.assertEqual(held(other, 0, keep_and_read), [(0, 1), (1, 2), (2, 3)])
+            self.assertEqual(live(program, 0, keep_and_read), [(1, 2)])
+            self.assertEqual(live(other, 0, keep_and_read), [(0, 1), (1, 2)])
+            self.assertEqual(live(other, 0, kept_anew), [(1, 2)])
+            self.assertEqual(paper(program, 0), ((), ((0, "own"), (2, "own"))))
+            self.assertEqual(paper(other, 0), keep_and_read)
+            self.assertEqual(paper(program, 0, [(1, 2)]), kept_anew)
 
     def test_the_list_without_rows_is_a_new_one(self):
         program = [("reckon", "z", "+", "x", "y"), ("end",)]
