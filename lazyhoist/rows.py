@@ -65,6 +65,12 @@ def target_of(row):
     return None
 
 
+def with_target(row, to):
+    if row[0] == "go":
+        return ("go", to)
+    return ("part", row[1], to)
+
+
 def reckoning_of(row):
     if row[0] == "reckon":
         return (row[2], row[3], row[4])

@@ -21,6 +21,12 @@ def is_whole(program, way):
     return is_way(program, way) and way[0] == 0 and program[way[-1]][0] == "end"
 
 
+def places_through(way):
+    # A run's way may be without rows: it is no beginning, so it goes through no place.
+    ahead = [(-1, 0)] if len(way) > 0 and way[0] == 0 else []
+    return ahead + [(way[k], way[k + 1]) for k in range(len(way) - 1)]
+
+
 def way_to(program, n):
     goals = [m == n for m in range(len(program))]
     return shortest_way(all_followers(program), 0, goals, [False for row in program])

@@ -2,8 +2,9 @@
 
 import itertools
 
-from lazyhoist.programs import followers, places, reckonings
+from lazyhoist.programs import check, followers, places, reckonings
 from lazyhoist.rows import changes, reckoning_of
+from tests.allways import ways_from
 
 HOWS = ("own", "keep", "read")
 
@@ -49,6 +50,17 @@ def drawn_paper(source, program, k, kept_at=None):
     return (
         tuple(place for place in kept_at if source.random() < share),
         tuple((n, source.choice(HOWS)) for n in rows_reckoning(program, k)))
+
+
+def paper_by_words(program, kept, hows, k=0):
+    """A paper with these kept places, and for the rows that reckon it the words of its hows, one behind another."""
+    check(program)
+    return (tuple(kept), tuple(zip(rows_reckoning(program, k), hows.split(), strict=True)))
+
+
+def some_stops(source, program):
+    share = source.choice((0.1, 0.3, 0.6))
+    return [place for place in places(program) if source.random() < share]
 
 
 def may_be_put_off(program, k, stops, first_places, places_in, rows_in):
@@ -148,4 +160,49 @@ def refused_slowly(program, k, paper, wanted_at, held_at):
     for n, how in paper[1]:
         if how == "read" and not all(place in held_at for place in places(program) if place[1] == n):
             return ("empty", n)
+    return None
+
+
+def counted_slowly(paper, way):
+    """Point 23, of a way."""
+    kept, hows = paper[0], dict(paper[1])
+    return sum(place in kept for place in gone_through(way)) + sum(hows.get(n) in ("own", "keep") for n in way)
+
+
+def whole_ways(program, most):
+    """All whole ways of at most so many rows."""
+    return [way for way in ways_from(program, 0, most) if program[way[-1]] == ("end",)]
+
+
+def differences(program, one, other):
+    """Of each row and each place how often the one reckons there, less how often the other one does."""
+    hows = dict(one[1]), dict(other[1])
+    rows = [
+        sum(sign * (how.get(n) in ("own", "keep")) for sign, how in zip((1, -1), hows)) for n in range(len(program))]
+    return rows, {place: (place in one[0]) - (place in other[0]) for place in places(program)}
+
+
+def shows_never(program, one, other, numbers):
+    """Whether the numbers show, as in 26, that the one reckons on no whole way less often."""
+    if len(numbers) != len(program):
+        return False
+    rows, at = differences(program, one, other)
+    return (
+        numbers[0] <= at[-1, 0]
+        and all(numbers[m] <= numbers[n] + rows[n] + at[n, m] for n, m in places(program) if n != -1)
+        and all(numbers[n] + rows[n] >= 0 for n, row in enumerate(program) if row == ("end",)))
+
+
+def least_difference(program, one, other):
+    """The least that the one reckons more often on a whole way of any length, or None where there is no least one."""
+    rows, at = differences(program, one, other)
+    numbers = {0: at[-1, 0]}
+    for count in range(len(program) + 1):
+        lowered = dict(numbers)
+        for n, m in places(program):
+            if n in numbers:
+                lowered[m] = min(lowered.get(m, 10 ** 9), numbers[n] + rows[n] + at[n, m])
+        if lowered == numbers:
+            return min(numbers[n] for n, row in enumerate(program) if row == ("end",))
+        numbers = lowered
     return None

@@ -1,5 +1,7 @@
 """Programs that several tests ask about."""
 
+import itertools
+
 from lazyhoist.errors import NoProgram
 from lazyhoist.programs import check
 
@@ -177,5 +179,29 @@ def drawn_programs(source, count, least, most, names=("a", "b", "c")):
         size = source.randint(least, most)
         rows = [drawn_row(source, n, size, names) for n in range(size)]
         if is_program(rows):
+            told.append(rows)
+    return told
+
+
+# Rows that reckon x + y, reckon and change it, change it by a copy, and do neither.
+SMALL_KINDS = (RECKON, BOTH, ("copy", "y", 1), SAY, END)
+
+
+def small_programs(size):
+    """All programs of so many rows of these kinds, go rows and parts, that reckon x + y."""
+    kinds = list(SMALL_KINDS) + [("go", to) for to in range(size)] + [("part", "c", to) for to in range(size)]
+    for rows in itertools.product(kinds, repeat=size):
+        if (RECKON in rows or BOTH in rows) and is_program(list(rows)):
+            yield list(rows)
+
+
+def drawn_small(source, count, least, most):
+    """Programs of such rows, drawn from a source of chance that was started with a written number."""
+    told = []
+    while len(told) < count:
+        size = source.randint(least, most)
+        kinds = list(SMALL_KINDS) + [("go", source.randrange(size))] + [("part", "c", to) for to in range(size)]
+        rows = [source.choice(kinds) for n in range(size)]
+        if (RECKON in rows or BOTH in rows) and is_program(rows):
             told.append(rows)
     return told

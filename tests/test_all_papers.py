@@ -1,6 +1,5 @@
 """Points 17 to 22 and 24, and 2 of papers, against their own words: by all ways and papers of small programs."""
 
-import itertools
 import random
 import unittest
 
@@ -14,37 +13,9 @@ from lazyhoist.programs import places, reckonings
 from lazyhoist.wants import wanted
 from tests.allpapers import (
     all_papers, all_subsets, drawn_paper, held_slowly, is_empty_way, live_slowly, may_be_put_off, paper_slowly,
-    put_off_slowly, refused_slowly, rows_reckoning)
+    put_off_slowly, refused_slowly, rows_reckoning, some_stops)
 from tests.allways import is_unwanted_way, ways_from
-from tests.samples import BOTH, END, RECKON, SAY, drawn_programs, is_program, shapes
-
-# Rows that reckon x + y, reckon and change it, change it by a copy, and do neither.
-KINDS = (RECKON, BOTH, ("copy", "y", 1), SAY, END)
-
-
-def programs_of(size):
-    kinds = list(KINDS) + [("go", to) for to in range(size)] + [("part", "c", to) for to in range(size)]
-    for rows in itertools.product(kinds, repeat=size):
-        if (RECKON in rows or BOTH in rows) and is_program(list(rows)):
-            yield list(rows)
-
-
-def drawn_small(source, count, least, most):
-    """Programs with x + y, drawn from a source of chance that was started with a written number."""
-    told = []
-    while len(told) < count:
-        size = source.randint(least, most)
-        kinds = list(KINDS) + [("go", source.randrange(size))] + [("part", "c", to) for to in range(size)]
-        rows = [source.choice(kinds) for n in range(size)]
-        if (RECKON in rows or BOTH in rows) and is_program(rows):
-            told.append(rows)
-    return told
-
-
-def some_stops(source, program):
-    share = source.choice((0.1, 0.3, 0.6))
-    return [place for place in places(program) if source.random() < share]
-
+from tests.samples import drawn_programs, drawn_small, shapes, small_programs
 
 def at_first(program, k):
     told = firsts(program)
@@ -96,7 +67,7 @@ class Case(unittest.TestCase):
 class Small(Case):
     def test_all_papers_of_all_programs_of_up_to_three_rows(self):
         for size in range(1, 4):
-            for program in programs_of(size):
+            for program in small_programs(size):
                 beginnings, ways_by_row = self.ways_of(program)
                 for asked in all_papers(program, 0):
                     self.assert_by_all_ways(program, 0, asked, beginnings, ways_by_row)
@@ -114,7 +85,7 @@ class Small(Case):
 
     def test_the_greatest_of_all_sets(self):
         for size in range(1, 4):
-            for program in programs_of(size):
+            for program in small_programs(size):
                 for stops in all_subsets(places(program)):
                     self.assert_greatest(program, stops)
 
@@ -133,7 +104,7 @@ class Small(Case):
 
     def test_all_stops_of_all_programs_of_up_to_three_rows(self):
         for size in range(1, 4):
-            for program in programs_of(size):
+            for program in small_programs(size):
                 ways_by_row = self.ways_of(program)[1]
                 live_at = set(live(program, 0, paper(program, 0)))
                 for stops in all_subsets(places(program)):

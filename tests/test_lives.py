@@ -4,18 +4,14 @@ import unittest
 
 from lazyhoist.lives import live
 from lazyhoist.papers import paper, still
-from lazyhoist.programs import check, places, reckonings
-from tests.allpapers import rows_reckoning
+from lazyhoist.programs import places, reckonings
+from tests.allpapers import paper_by_words
 from tests.samples import BOTH, COPY, END, RECKON, SAY, shapes
 
 
 class Case(unittest.TestCase):
     def assert_live(self, program, kept, hows, told, k=0):
-        """The hows are told by their words alone, for the rows that reckon it."""
-        check(program)
-        rows = rows_reckoning(program, k)
-        self.assertEqual(len(rows), len(hows.split()))
-        self.assertEqual(live(program, k, (tuple(kept), tuple(zip(rows, hows.split())))), told)
+        self.assertEqual(live(program, k, paper_by_words(program, kept, hows, k)), told)
 
 
 class Straight(Case):

@@ -5,22 +5,15 @@ import unittest
 from lazyhoist.errors import HoistError, NoPaper, NoProgram, NoText
 from lazyhoist.looks import held, look
 from lazyhoist.papers import paper, still
-from lazyhoist.programs import check, places, reckonings
-from tests.allpapers import is_empty_way, rows_reckoning
+from lazyhoist.programs import places, reckonings
+from tests.allpapers import is_empty_way, paper_by_words
 from tests.allways import is_unwanted_way
 from tests.samples import BOTH, COPY, END, RECKON, SAY, shapes
 
 
 class Case(unittest.TestCase):
-    def paper(self, program, kept, hows, k=0):
-        """The hows are told by their words alone, for the rows that reckon it."""
-        check(program)
-        rows = rows_reckoning(program, k)
-        self.assertEqual(len(rows), len(hows.split()))
-        return (tuple(kept), tuple(zip(rows, hows.split())))
-
     def assert_held(self, program, kept, hows, told, k=0):
-        self.assertEqual(held(program, k, self.paper(program, kept, hows, k)), told)
+        self.assertEqual(held(program, k, paper_by_words(program, kept, hows, k)), told)
 
     def refusal_of(self, program, asked, k=0):
         with self.assertRaises(NoPaper) as taken:
@@ -28,7 +21,7 @@ class Case(unittest.TestCase):
         return taken.exception
 
     def assert_let_by(self, program, kept, hows, k=0):
-        self.assertIsNone(look(program, k, self.paper(program, kept, hows, k)))
+        self.assertIsNone(look(program, k, paper_by_words(program, kept, hows, k)))
 
     def assert_form(self, program, asked, k=0):
         refusal = self.refusal_of(program, asked, k)
@@ -36,14 +29,14 @@ class Case(unittest.TestCase):
 
     def assert_unwanted(self, program, kept, hows, at, ways=None, k=0):
         """Refused at this place by one of these ways, if they are told; always by one as in 13."""
-        refusal = self.refusal_of(program, self.paper(program, kept, hows, k), k)
+        refusal = self.refusal_of(program, paper_by_words(program, kept, hows, k), k)
         self.assertEqual((refusal.word, refusal.at), ("unwanted", at))
         self.assertIs(type(refusal.way), list)
         self.assertTrue(is_unwanted_way(program, k, at, refusal.way), refusal.way)
         self.assertTrue(ways is None or refusal.way in ways, refusal.way)
 
     def assert_empty(self, program, kept, hows, at, ways=None, k=0):
-        asked = self.paper(program, kept, hows, k)
+        asked = paper_by_words(program, kept, hows, k)
         refusal = self.refusal_of(program, asked, k)
         self.assertEqual((refusal.word, refusal.at), ("empty", at))
         self.assertIs(type(refusal.at), int)

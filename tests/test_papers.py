@@ -4,18 +4,14 @@ import unittest
 
 from lazyhoist.firsts import firsts
 from lazyhoist.papers import paper, still
-from lazyhoist.programs import check, places, reckonings
-from tests.allpapers import rows_reckoning
+from lazyhoist.programs import places, reckonings
+from tests.allpapers import paper_by_words, rows_reckoning
 from tests.samples import BOTH, COPY, END, RECKON, SAY, shapes
 
 
 class Case(unittest.TestCase):
     def assert_paper(self, program, kept, hows, stops=None, k=0):
-        """The hows are told by their words alone, for the rows that reckon it."""
-        check(program)
-        rows = rows_reckoning(program, k)
-        self.assertEqual(len(rows), len(hows.split()))
-        self.assertEqual(paper(program, k, stops), (tuple(kept), tuple(zip(rows, hows.split()))))
+        self.assertEqual(paper(program, k, stops), paper_by_words(program, kept, hows, k))
 
 
 class Last(Case):

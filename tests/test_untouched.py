@@ -3,8 +3,11 @@
 import copy
 import unittest
 
+from lazyhoist.counts import counted, tally
 from lazyhoist.errors import NoPaper, NoProgram, NoText
 from lazyhoist.firsts import firsts
+from lazyhoist.laying import laid, moved
+from lazyhoist.less import less_often
 from lazyhoist.lives import live
 from lazyhoist.looks import held, look
 from lazyhoist.offs import put_off
@@ -16,6 +19,7 @@ from lazyhoist.stands import standing, unstanding
 from lazyhoist.texts import read, show
 from lazyhoist.wants import unwanted, wanted
 from lazyhoist.ways import is_way, is_whole, way_on, way_to
+from lazyhoist.whole import hoisted, saving
 from lazyhoist.worths import reckoned
 from tests.samples import EACH_KIND
 
@@ -62,6 +66,12 @@ def asked(program):
             told["unwanted", k, place] = unwanted(program, k, place)
             told["unstanding", k, place] = unstanding(program, k, place)
         told.update(asked_of_papers(program, k))
+    told["moved"], told["hoisted"] = moved(program), hoisted(show(program))
+    for most in (0, 7, 100):
+        told["saving", most] = saving(program, NAMES, most)
+        told["tally", most] = tally(program, run(program, NAMES, most)[3])
+    for name in ("still", "last", "first", "unwanted", "empty"):
+        told["laid", name] = laid_or_refused(program, name)
     return told
 
 
@@ -76,6 +86,9 @@ def asked_of_papers(program, k):
         told["live", k, name] = live(program, k, asked_about)
         told["held", k, name] = held(program, k, asked_about)
         told["look", k, name] = paper_refused(program, k, asked_about)
+        told["counted", k, name] = counted(program, k, asked_about, way_to(program, len(program) - 1))
+        told["less often", k, name] = less_often(program, k, asked_about, paper(program, k))
+        told["more often", k, name] = less_often(program, k, paper(program, k), asked_about)
     return told
 
 
@@ -94,6 +107,14 @@ def papers_of(program, k):
 def paper_refused(program, k, asked_about):
     try:
         return look(program, k, asked_about)
+    except NoPaper as refusal:
+        return (refusal.word, refusal.at, refusal.way)
+
+
+def laid_or_refused(program, name):
+    papers = [papers_of(program, k)[name] for k in range(len(reckonings(program)))]
+    try:
+        return laid(program, papers)
     except NoPaper as refusal:
         return (refusal.word, refusal.at, refusal.way)
 
@@ -196,6 +217,25 @@ class HandedIn(unittest.TestCase):
                 self.assertEqual(program, list(EACH_KIND))
 
 
+    def test_papers_ways_and_names_stay(self):
+        program = list(EACH_KIND)
+        papers = [None, paper(program, 1, places(program)), ((), ((6, "keep"),))]
+        before = list(papers)
+        self.assertGreater(len(laid(program, papers)), len(program))
+        self.assertEqual(papers, before)
+        papers[0] = ((), ())
+        before = list(papers)
+        self.assertRaises(NoPaper, laid, program, papers)
+        self.assertEqual(papers, before)
+        way, names = [0, 1, 4, 5, 6, 7, 1], dict(NAMES)
+        tally(program, way)
+        for k in range(3):
+            counted(program, k, still(program, k), way)
+        saving(program, names)
+        saving(program, names, 3)
+        self.assertEqual((way, names, program), ([0, 1, 4, 5, 6, 7, 1], NAMES, list(EACH_KIND)))
+
+
 class GivenBack(unittest.TestCase):
     def test_the_same_behind_changed_answers(self):
         program = list(EACH_KIND)
@@ -225,6 +265,8 @@ class GivenBack(unittest.TestCase):
             (("run", 0), ("spent", [], {"a": 3, "n": 2, "y": 1, "z": 9}, [])),
             (("run", 1), ("end", [], {"a": 3, "n": 2, "y": 1, "z": 9}, [0])),
             ("wanted", {(-1, 0): 0}), ("standing", {(-1, 0): 0}), ("firsts", {(-1, 0): 0}),
+            ("moved", [("end",)]), ("hoisted", "end"), (("laid", "first"), [("end",)]), (("saving", 7), []),
+            (("tally", 7), []),
         ):
             self.assertEqual(told[question], answer)
 
@@ -252,6 +294,31 @@ class ChangedBehind(unittest.TestCase):
         stops.clear()
         self.assertEqual(put_off(program, 0, stops), ([(-1, 0), (0, 1), (1, 2)], [0, 1, 2]))
         self.assertEqual(paper(program, 0, stops), ((), ((2, "own"),)))
+
+    def test_papers_ways_and_names_changed_behind_the_call_change_no_answer(self):
+        program = [("say", 1), ("reckon", "z", "+", "x", "y"), ("part", "c", 0), ("end",)]
+        kept_ahead = (((-1, 0),), ((1, "read"),))
+        papers, way, names = [kept_ahead], [0, 1, 2, 0, 1, 2, 3], {"c": 1}
+        told = laid(program, papers), tally(program, way), saving(program, names, 7)
+        kept = copy.deepcopy(told)
+        papers[0] = None
+        way.pop()
+        names.clear()
+        self.assertEqual(told, kept)
+        self.assertEqual(laid(program, papers), program)
+        self.assertEqual(counted(program, 0, still(program, 0), way), 2)
+        self.assertEqual(counted(program, 0, still(program, 0), way[:3]), 1)
+        self.assertEqual((tally(program, way[:4]), tally(program, way)), ([1], [2]))
+        self.assertEqual((saving(program, names, 7), saving(program, {"c": 1}, 7)), ([0], kept[2]))
+
+    def test_a_program_told_is_the_askers_own(self):
+        program = [("say", 1), ("reckon", "z", "+", "x", "y"), ("part", "c", 0), ("end",)]
+        for count in range(2):
+            for told in (laid(program, [None]), laid(program, [still(program, 0)]), moved([("end",)]), moved(program)):
+                told.clear()
+            self.assertEqual(len(moved(program)), 5)
+            self.assertEqual(laid(program, [None]), program)
+            self.assertEqual(len(program), 4)
 
     def test_a_refusal_is_made_of_a_new_list(self):
         program = [("say", 1), ("reckon", "z", "+", "x", "y"), ("say", 2), ("end",)]
@@ -364,6 +431,24 @@ class AskedAhead(unittest.TestCase):
             self.assertEqual(paper(program, 0), ((), ((0, "own"), (2, "own"))))
             self.assertEqual(paper(other, 0), keep_and_read)
             self.assertEqual(paper(program, 0, [(1, 2)]), kept_anew)
+            self.assertRaises(NoPaper, laid, program, [keep_and_read])
+            self.assertEqual(len(laid(other, [keep_and_read])), 5)
+            self.assertEqual(len(laid(program, [kept_anew])), 5)
+            self.assertEqual(moved(program), program)
+            self.assertEqual(counted(program, 0, keep_and_read, [0, 1, 2, 3]), 1)
+            self.assertEqual(counted(program, 0, kept_anew, [0, 1, 2, 3]), 2)
+            self.assertEqual(counted(program, 0, kept_anew, [0, 1]), 1)
+            self.assertEqual(less_often(program, 0, keep_and_read, kept_anew), ("way", [0, 1, 2, 3]))
+            self.assertEqual(less_often(program, 0, kept_anew, keep_and_read)[0], "never")
+            self.assertEqual((saving(program, {}), saving(other, {})), ([0], [1]))
+
+    def test_other_texts_hoisted_in_between(self):
+        for count in range(2):
+            self.assertEqual(hoisted("x = a + b\nend"), "x = a + b\nend")
+            self.assertRaises(NoText, hoisted, "x = a +\nend")
+            self.assertEqual(hoisted("end"), "end")
+            self.assertRaises(NoProgram, hoisted, "end\nend")
+            self.assertEqual(len(hoisted("x = a + b\nx = a + b\nend").split("\n")), 4)
 
     def test_the_list_without_rows_is_a_new_one(self):
         program = [("reckon", "z", "+", "x", "y"), ("end",)]
